@@ -1,0 +1,1 @@
+"""Guestlives: guest programs run by translated blocks, and the rules that keep them right."""
