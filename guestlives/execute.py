@@ -47,6 +47,11 @@ def tell_deed(machine, p, name, operands):
     return ([("halt", p)], [], 0)
 
 
+def compared(first, second):
+    """Return the flags (zero, less) that comparing two numbers gives."""
+    return (1 if first == second else 0, 1 if first < second else 0)
+
+
 def value_deed(machine, p, name, operands):
     """Do one of the instructions that make a value."""
     processor = machine.processors[p]
@@ -61,8 +66,7 @@ def value_deed(machine, p, name, operands):
     elif name == "load":
         regs[first] = machine.number_at(second)
     else:
-        processor.zero = 1 if regs[first] == regs[second] else 0
-        processor.less = 1 if regs[first] < regs[second] else 0
+        processor.zero, processor.less = compared(regs[first], regs[second])
     return ([], [], 0)
 
 

@@ -5,6 +5,7 @@ import inspect
 import unittest
 
 PLAIN_PAGES = ((0, 7), (1, 7), (2, 7), (3, 7))
+ENVIRONMENT = "*, other=True, device=True"
 GUEST_DEFAULTS = "pages=((0, 7), (1, 7), (2, 7), (3, 7)), starts=(0, None), handlers=(60, 60), writes=()"
 
 FUNCTIONS = {
@@ -27,6 +28,20 @@ FUNCTIONS = {
                 "take(machine, p)", "device_write(machine)", "inspect_event(machine, p)"),
     "plain": ("plain_events(guest, schedule)",),
     "explore": ("can_output(guest, events, *, interrupts=False)", "all_outputs(guest, length)"),
+    "flush": ("sources(maker)", "flush(processor, deferred)", "flushed(processor, deferred)"),
+    "defer": ("translate(instructions, level, policy)",),
+    "making": ("capture_at(machine, address)", "build_block(entry, level, parts, policy)",
+               "make_block(machine, entry, level, policy, longest)", "is_same(machine, block, pc, level)"),
+    "notice": ("tracked(block, policy)", "is_hit(block, change, policy)"),
+    "policies": ("describe(name)", "policy_number(policy)", "policy_numbered(number)"),
+    "perform": ("has_part(block, index)", "deferred_at(block, index)", "newest(buffer, frame, offset)",
+                "drain(machine, buffer)", "perform(machine, p, block, index, policy, buffer)"),
+    "against": ("run_trial(trial, policy)", "agrees(host)", "first_difference(trial, policy)"),
+    "cellscenario": ("targets_of(policy)", f"cell_scenario(policy, {ENVIRONMENT})"),
+    "cellwitness": ("cell_witness(policy, target, scenario)",),
+    "valuescenario": ("value_scenario(policy)", f"can_leave(policy, {ENVIRONMENT})",
+                      f"leave_scenario(policy, {ENVIRONMENT})"),
+    "valuewitness": (f"value_witness(scenario, {ENVIRONMENT})",),
 }
 CLASSES = {
     "errors": ("TextError(line, column)", "InstructionError(name)", "GuestError(field)", "PolicyError(name)",
@@ -36,6 +51,13 @@ CLASSES = {
     "machine": ("Processor(start)", "Machine(guest)"),
     "trial": ("Trial(guest, slots, longest, schedule)",),
     "plain": ("PlainRun(guest)",),
+    "parts": ("Part(address, name, operands, size, captured, *, before=(), done=True, after=(), start_map=(), "
+              "deed_map=())", "Block(entry, level, parts)"),
+    "store": ("BlockStore(count)",),
+    "host": ("Host(guest, policy, *, slots=4, longest=4)",),
+    "search": ("Table(first='start', rows=())",),
+    "celltable": (f"CellTable(policy, target, {ENVIRONMENT})",),
+    "valuetable": ("ValueTable(policy, target, *, leaving)",),
 }
 METHODS = {
     "policy.Policy": ("has(self, name)", "__contains__(self, name)", "__iter__(self)", "__or__(self, other)",
@@ -46,9 +68,22 @@ METHODS = {
                         "rights_at(self, address)"),
     "trial.Trial": ("key(self)",),
     "plain.PlainRun": ("do(self, action)", "run(self, schedule)", "class replay(cls, guest, schedule)"),
+    "parts.Part": ("address_after(self, taken)", "key(self)"),
+    "parts.Block": ("__iter__(self)", "captured_cells(self)", "exits(self)", "exit_address(self, way)", "key(self)"),
+    "store.BlockStore": ("lookup(self, entry, level, policy)", "candidate(self, seats, policy)",
+                         "put(self, block, slot, policy)", "hits(self, change, policy)",
+                         "invalidate(self, slot, policy)", "holds(self, came)", "link_of(self, came)",
+                         "set_link(self, came, slot)", "drop_link(self, came)", "all_links(self)", "key(self)"),
+    "host.Host": ("do(self, action)", "run(self, schedule)", "view(self)"),
+    "search.Table": ("start(self)", "moves(self, state)", "scenario(self)", "states(self)"),
+    "celltable.CellTable": ("start(self)", "moves(self, state)"),
+    "valuetable.ValueTable": ("start(self)", "moves(self, state)"),
 }
+PROPERTIES = ("plain.PlainRun.finished", "parts.Part.fall_through")
 VALUES = ("ops.OPS", "policy.RULES", "guest.PLAIN_PAGES", "trial.ACTIONS", "plaintext.TRAP_KINDS",
-          "explore.MOST_LENGTH")
+          "explore.MOST_LENGTH", "policies.CODE_RULES", "policies.VALUE_RULES", "policies.POLL_RULES",
+          "search.BAD", "celltable.MOVES", "celltable.TARGETS", "valuetable.VALUE_TARGETS",
+          "valuetable.REGISTER_MOVES")
 
 
 def module_named(name):
@@ -80,6 +115,16 @@ class TestInterface(unittest.TestCase):
                 self.assertTrue(wanted[kind](found), row)
                 plain = found.__func__ if kind else found
                 self.assertEqual(plain.__name__ + str(inspect.signature(plain)), rest)
+
+    def test_properties(self):
+        for place in PROPERTIES:
+            name, word, last = place.split(".")
+            self.assertIsInstance(vars(getattr(module_named(name), word))[last], property)
+
+    def test_tables(self):
+        table = module_named("search").Table
+        self.assertEqual(module_named("celltable").CellTable.__bases__, (table,))
+        self.assertEqual(module_named("valuetable").ValueTable.__bases__, (table,))
 
     def test_values(self):
         for place in VALUES:

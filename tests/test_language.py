@@ -101,6 +101,28 @@ class TestModules(unittest.TestCase):
             names = bound_at_top(tree)
             self.assertEqual(len(names), len(set(names)), name)
 
+    def test_lists_dicts_and_tuples_at_module_level_contain_no_list_and_no_dict(self):
+        for name, tree in TREES.items():
+            for node in tree.body:
+                if isinstance(node, ast.Assign):
+                    for part in ast.walk(node.value):
+                        if part is not node.value:
+                            self.assertNotIsInstance(part, (ast.List, ast.Dict), name)
+
+    def test_classes_have_methods_and_plain_values(self):
+        for name, node in walk_all(ast.ClassDef):
+            self.assertIsNotNone(ast.get_docstring(node), (name, node.name))
+            for part in node.body[1:]:
+                self.assertIsInstance(part, (ast.FunctionDef, ast.Assign), (name, node.name))
+                if isinstance(part, ast.Assign):
+                    ast.literal_eval(part.value)
+
+    def test_defaults_are_plain(self):
+        for name, node in walk_all(ast.FunctionDef):
+            for default in node.args.defaults + [default for default in node.args.kw_defaults if default]:
+                if not isinstance(default, ast.Name):
+                    self.assertIsInstance(ast.literal_eval(default), (int, str, bool, tuple, type(None)), name)
+
     def test_imports_name_the_file_that_defines(self):
         for name, node in walk_all(ast.ImportFrom):
             self.assertEqual(node.level, 0)
@@ -171,6 +193,22 @@ class TestNames(unittest.TestCase):
             if any(found):
                 self.assertEqual(len(found), 1, name)
 
+    def test_generators_are_iterated_at_once(self):
+        names = {node.name for _, node in walk_all(ast.FunctionDef)
+                 if any(isinstance(part, (ast.Yield, ast.YieldFrom)) for part in ast.walk(node))}
+        whole = {"list", "tuple", "dict", "sorted", "sum", "any", "all", "enumerate", "zip"}
+        at_once = []
+        for _, node in walk_all(ast.For, ast.comprehension, ast.YieldFrom, ast.Call):
+            if isinstance(node, (ast.For, ast.comprehension)):
+                at_once.append(node.iter)
+            elif isinstance(node, ast.YieldFrom):
+                at_once.append(node.value)
+            elif isinstance(node.func, ast.Name) and node.func.id in whole:
+                at_once.extend(node.args)
+        for name, node in walk_all(ast.Call):
+            if getattr(node.func, "id", getattr(node.func, "attr", "")) in names:
+                self.assertIn(node, at_once, (name, node.lineno))
+
 
 class TestExpressions(unittest.TestCase):
     def test_barred_nodes(self):
@@ -208,6 +246,22 @@ class TestExpressions(unittest.TestCase):
         for name, node in walk_all(ast.Call):
             if isinstance(node.func, ast.Attribute):
                 self.assertIn(node.func.attr, own | METHODS, name)
+
+    def test_sets_are_used_on_the_spot(self):
+        allowed = []
+        for _, node in walk_all(ast.Call):
+            if isinstance(node.func, ast.Name) and node.func.id in ("sorted", "len"):
+                allowed.extend(node.args)
+        for name, node in walk_all(ast.Set, ast.SetComp, ast.Call):
+            if not isinstance(node, ast.Call) or getattr(node.func, "id", "") == "set":
+                self.assertIn(node, allowed, (name, node.lineno))
+
+    def test_super_is_called_at_once(self):
+        callers = [node.func.value for _, node in walk_all(ast.Call) if isinstance(node.func, ast.Attribute)]
+        for name, node in walk_all(ast.Call):
+            if isinstance(node.func, ast.Name) and node.func.id == "super":
+                self.assertIn(node, callers, name)
+                self.assertEqual(node.args, [], name)
 
     def test_is_stands_beside_none_true_and_false(self):
         for name, node in walk_all(ast.Compare):
