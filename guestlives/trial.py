@@ -1,7 +1,7 @@
 """Actions, settings of a host, and trials (points 9 and 14)."""
 
 from guestlives.errors import ActionError, SettingError
-from guestlives.limits import MOST_ACTIONS, MOST_LONGEST, MOST_SLOTS
+from guestlives.limits import MOST_ACTIONS, MOST_LONGEST, MOST_SLOTS, PROCESSORS
 
 ACTIONS = ("g0", "g1", "t0", "t1", "r0", "r1", "i0", "i1", "p0", "p1", "d")
 
@@ -12,12 +12,21 @@ def check_action(action):
         raise ActionError(action)
 
 
+def check_range(name, number, least, most):
+    """Raise the error of a named number that is not from `least` to `most`."""
+    if number < least or number > most:
+        raise SettingError(name)
+
+
 def check_settings(slots, longest):
     """Raise the error of the first setting that is out of range."""
-    if slots < 0 or slots > MOST_SLOTS:
-        raise SettingError("slots")
-    if longest < 1 or longest > MOST_LONGEST:
-        raise SettingError("longest")
+    check_range("slots", slots, 0, MOST_SLOTS)
+    check_range("longest", longest, 1, MOST_LONGEST)
+
+
+def check_processor(p):
+    """Raise the error of a processor that does not exist."""
+    check_range("processor", p, 0, PROCESSORS - 1)
 
 
 class Trial:

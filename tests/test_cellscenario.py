@@ -9,24 +9,9 @@ from guestlives.cellscenario import cell_scenario, targets_of
 from guestlives.celltable import TARGETS, CellTable
 from guestlives.policies import CODE_RULES
 from guestlives.policy import Policy
+from wording import code_is_safe
 
 FIRST, LATER = ("first", "same"), ("later", "same")
-
-
-def is_safe(rules, other, device):
-    """Point 98 of the document, in its words."""
-    covered = "track_frames" in rules and ("track_second" in rules or "stop_page" in rules)
-    watched = "invalidate_store" in rules and covered
-    inside = "stop_store" in rules or (watched and "leave_self" in rules)
-    if other:
-        inside = inside and watched and {"invalidate_map", "invalidate_rights", "leave_other", "hold_slot"} <= rules
-    if device:
-        inside = inside and "invalidate_device" in rules and covered and "leave_other" in rules
-    entries = watched and {"invalidate_map", "invalidate_rights", "key_level"} <= rules
-    entries = entries and (not device or "invalidate_device" in rules)
-    entries = entries and (not (other or device) or "track_prepared" in rules)
-    entries = entries and ("no_links" in rules or {"cut_links", "clear_links"} <= rules)
-    return ("single" in rules or inside) and ("check_entry" in rules or entries)
 
 
 class TestTargetsOf(Checks):
@@ -94,7 +79,7 @@ class TestCellScenario(Checks):
             names = [name for name in CODE_RULES if random.randrange(10) < share]
             for other, device in product((True, False), repeat=2):
                 found = cell_scenario(Policy(names), other=other, device=device)
-                self.assertIs(found is None, bool(is_safe(set(names), other, device)), names)
+                self.assertIs(found is None, bool(code_is_safe(set(names), other, device)), names)
 
     def test_keywords(self):
         with self.assertRaises(TypeError):

@@ -42,7 +42,21 @@ FUNCTIONS = {
     "valuescenario": ("value_scenario(policy)", f"can_leave(policy, {ENVIRONMENT})",
                       f"leave_scenario(policy, {ENVIRONMENT})"),
     "valuewitness": (f"value_witness(scenario, {ENVIRONMENT})",),
+    "conditions": ("value_condition(policy)", f"leave_condition(policy, {ENVIRONMENT})",
+                   f"code_condition(policy, {ENVIRONMENT})"),
+    "verdict": (f"verdict(policy, {ENVIRONMENT})", f"is_right(policy, {ENVIRONMENT})",
+                f"witness(policy, {ENVIRONMENT})", "sort_policies(*policies, other=True, device=True)"),
+    "least": (f"least_policies({ENVIRONMENT})", f"repairs(policy, {ENVIRONMENT})",
+              f"redundant(policy, {ENVIRONMENT})", f"shrink(policy, {ENVIRONMENT})"),
+    "prices": ("price_of(policy, prices)", f"cheapest(prices, {ENVIRONMENT})"),
+    "polling": ("is_polled(policy, entry, target)", "always_polled(policy)"),
+    "graph": ("block_graph(machine, level, policy, longest)",),
+    "rings": ("unpolled_targets(graph, policy, entry)", "unpolled_edges(graph, policy)",
+              "unpolled_rings(graph, policy)", "greatest_delay(graph, policy)"),
+    "delays": ("delays(schedule, p)",),
+    "handshake": ("stuck_scenario(waiting_counts)",),
 }
+GENERATORS = ("scan.statements", "parts.Block.captured_cells", "least.shrink", "rings.unpolled_edges")
 CLASSES = {
     "errors": ("TextError(line, column)", "InstructionError(name)", "GuestError(field)", "PolicyError(name)",
                "ActionError(action)", "SettingError(name)", "DebuggerError(reason)"),
@@ -58,6 +72,7 @@ CLASSES = {
     "search": ("Table(first='start', rows=())",),
     "celltable": (f"CellTable(policy, target, {ENVIRONMENT})",),
     "valuetable": ("ValueTable(policy, target, *, leaving)",),
+    "handshake": ("Handshake(waiting_counts)",),
 }
 METHODS = {
     "policy.Policy": ("has(self, name)", "__contains__(self, name)", "__iter__(self)", "__or__(self, other)",
@@ -78,12 +93,18 @@ METHODS = {
     "search.Table": ("start(self)", "moves(self, state)", "scenario(self)", "states(self)"),
     "celltable.CellTable": ("start(self)", "moves(self, state)"),
     "valuetable.ValueTable": ("start(self)", "moves(self, state)"),
+    "handshake.Handshake": ("start(self)", "moves(self, state)"),
+}
+BASES = {
+    "celltable.CellTable": "search.Table",
+    "valuetable.ValueTable": "search.Table",
+    "handshake.Handshake": "search.Table",
 }
 PROPERTIES = ("plain.PlainRun.finished", "parts.Part.fall_through")
 VALUES = ("ops.OPS", "policy.RULES", "guest.PLAIN_PAGES", "trial.ACTIONS", "plaintext.TRAP_KINDS",
           "explore.MOST_LENGTH", "policies.CODE_RULES", "policies.VALUE_RULES", "policies.POLL_RULES",
           "search.BAD", "celltable.MOVES", "celltable.TARGETS", "valuetable.VALUE_TARGETS",
-          "valuetable.REGISTER_MOVES")
+          "valuetable.REGISTER_MOVES", "prices.MOST_PRICE")
 
 
 def module_named(name):
@@ -121,10 +142,18 @@ class TestInterface(unittest.TestCase):
             name, word, last = place.split(".")
             self.assertIsInstance(vars(getattr(module_named(name), word))[last], property)
 
-    def test_tables(self):
-        table = module_named("search").Table
-        self.assertEqual(module_named("celltable").CellTable.__bases__, (table,))
-        self.assertEqual(module_named("valuetable").ValueTable.__bases__, (table,))
+    def test_generators(self):
+        for place in GENERATORS:
+            name, *words = place.split(".")
+            found = module_named(name)
+            for word in words:
+                found = vars(found)[word]
+            self.assertTrue(inspect.isgeneratorfunction(found), place)
+
+    def test_base_classes(self):
+        for place, base in BASES.items():
+            (name, _, word), (other, _, above) = place.partition("."), base.partition(".")
+            self.assertEqual(getattr(module_named(name), word).__bases__, (getattr(module_named(other), above),))
 
     def test_values(self):
         for place in VALUES:

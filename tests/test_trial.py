@@ -5,7 +5,7 @@ import unittest
 from checks import Checks
 from guestlives.errors import ActionError, SettingError
 from guestlives.guest import Guest
-from guestlives.trial import ACTIONS, Trial, check_action, check_settings
+from guestlives.trial import ACTIONS, Trial, check_action, check_processor, check_range, check_settings
 
 WRONG_ACTIONS = ("", "g", "g2", "G0", "g0 ", " g0", "d0", "g0*2", "t", "none", "x0")
 
@@ -30,6 +30,15 @@ class TestActions(Checks):
         for longest in (-1, 0, 9):
             for slots in (0, 8):
                 self.refuses(SettingError, {"name": "longest"}, check_settings, slots, longest)
+
+    def test_processor_and_range(self):
+        self.assertIsNone(check_processor(0))
+        self.assertIsNone(check_processor(1))
+        for p in (-1, 2):
+            self.refuses(SettingError, {"name": "processor"}, check_processor, p)
+        self.assertIsNone(check_range("x", 3, 3, 3))
+        for number in (2, 4):
+            self.refuses(SettingError, {"name": "x"}, check_range, "x", number, 3, 3)
 
 
 class TestTrial(Checks):

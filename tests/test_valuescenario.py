@@ -7,9 +7,9 @@ from checks import Checks
 from guestlives.policies import CODE_RULES, VALUE_RULES
 from guestlives.policy import Policy
 from guestlives.valuescenario import can_leave, leave_scenario, value_scenario
+from wording import MAPPED, leaving_is_safe, values_are_safe
 
 FLAGS = (True, False)
-MAPPED = {"flush_exit", "map_inspect", "keep_dropped", "flush_source"}
 FREE = (None, ["make", "leave", "read"])
 
 
@@ -17,20 +17,6 @@ def all_rules():
     names = VALUE_RULES + ("single", "stop_store")
     for count in range(len(names) + 1):
         yield from combinations(names, count)
-
-
-def values_are_safe(rules):
-    """The first condition of point 97 of the document, in its words."""
-    stores = bool({"prompt_store", "single", "stop_store"} & rules)
-    registers = "eager" in rules or {"flush_exit", "single"} <= rules
-    return stores and (registers or (MAPPED <= rules and bool({"map_fault", "flush_fault"} & rules)))
-
-
-def leaving_is_safe(rules, other, device):
-    """The second condition of point 97 of the document, in its words."""
-    if {"eager", "single", "map_leave"} & rules:
-        return True
-    return not other and not device and bool({"stop_store", "flush_fault"} & rules)
 
 
 class TestValueScenario(Checks):
