@@ -20,6 +20,15 @@ def check_host_action(action):
         raise ActionError(action)
 
 
+def host_actions(schedule):
+    """Return a new list of the actions of a schedule, all of which a host can do."""
+    # The schedule may be the host's or the debugger's own list, which changes with each action.
+    actions = list(schedule)
+    for action in actions:
+        check_host_action(action)
+    return actions
+
+
 class Host:
     """A guest with the blocks that were made of it, and all its events and actions so far."""
 
@@ -52,10 +61,7 @@ class Host:
 
     def run(self, schedule):
         """Do all actions of a schedule in order and return the list of their events."""
-        # The schedule may be the host's own, which grows with each action.
-        actions = list(schedule)
-        for action in actions:
-            check_host_action(action)
+        actions = host_actions(schedule)
         events = []
         for action in actions:
             events.extend(self.do(action))

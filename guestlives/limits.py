@@ -21,5 +21,9 @@ RIGHTS = 8
 MOST_SLOTS = 8
 MOST_LONGEST = 8
 MOST_HOT = 8
+
+# A joined block has at most twice as many parts as other blocks.
+MOST_JOINED = 16
+
 MOST_ACTIONS = 1000
 MOST_WRITES = 64

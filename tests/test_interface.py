@@ -55,8 +55,17 @@ FUNCTIONS = {
               "unpolled_rings(graph, policy)", "greatest_delay(graph, policy)"),
     "delays": ("delays(schedule, p)",),
     "handshake": ("stuck_scenario(waiting_counts)",),
+    "joining": ("join_addresses(a, index, b)", "make_joined(machine, addresses, level, policy, most)"),
+    "makers": ("printer_guest(numbers)", "stamper_guest(numbers)"),
+    "house": ("house_guest(name, number)", "house_matching(name, number)", "house_schedule(name, number)",
+              "house_events(name, number)"),
+    "journal": ("journal_line(number, action, events)", "journal(debugger)", "cost_lines(counts)",
+                "bill(counts, prices)"),
+    "saved": ("save(debugger)", "load(text)"),
+    "advice": ("environment_of(guest)", "is_safe(guest, policy)", "advise(guest, policy)", "warn(guest, policy)"),
 }
-GENERATORS = ("scan.statements", "parts.Block.captured_cells", "least.shrink", "rings.unpolled_edges")
+GENERATORS = ("scan.statements", "parts.Block.captured_cells", "least.shrink", "rings.unpolled_edges",
+              "debugger.Debugger.find")
 CLASSES = {
     "errors": ("TextError(line, column)", "InstructionError(name)", "GuestError(field)", "PolicyError(name)",
                "ActionError(action)", "SettingError(name)", "DebuggerError(reason)"),
@@ -73,6 +82,9 @@ CLASSES = {
     "celltable": (f"CellTable(policy, target, {ENVIRONMENT})",),
     "valuetable": ("ValueTable(policy, target, *, leaving)",),
     "handshake": ("Handshake(waiting_counts)",),
+    "hothost": ("HotHost(guest, policy, *, slots=4, longest=4, hot=2)",),
+    "stops": ("Stop()", "AddressStop(p, address)", "CellStop(frame, offset, number)", "EventStop(name)"),
+    "debugger": ("Debugger(guest, policy, *, slots=4, longest=4, hot=None)",),
 }
 METHODS = {
     "policy.Policy": ("has(self, name)", "__contains__(self, name)", "__iter__(self)", "__or__(self, other)",
@@ -94,17 +106,29 @@ METHODS = {
     "celltable.CellTable": ("start(self)", "moves(self, state)"),
     "valuetable.ValueTable": ("start(self)", "moves(self, state)"),
     "handshake.Handshake": ("start(self)", "moves(self, state)"),
+    "stops.Stop": ("__call__(self, machine, events)",),
+    "stops.AddressStop": ("__call__(self, machine, events)",),
+    "stops.CellStop": ("__call__(self, machine, events)",),
+    "stops.EventStop": ("__call__(self, machine, events)",),
+    "debugger.Debugger": ("do(self, action)", "run(self, schedule)", "state(self, p)", "cell(self, frame, offset)",
+                          "agrees(self)", "find(self, name)", "until(self, stop, p, *, limit=64)",
+                          "back(self, count=1)", "forward(self, count=1)", "detour(self)",
+                          "rehearse(self, *schedules)", "foresee(self, stop, p, *, limit=64)"),
 }
 BASES = {
     "celltable.CellTable": "search.Table",
     "valuetable.ValueTable": "search.Table",
     "handshake.Handshake": "search.Table",
+    "hothost.HotHost": "host.Host",
+    "stops.AddressStop": "stops.Stop",
+    "stops.CellStop": "stops.Stop",
+    "stops.EventStop": "stops.Stop",
 }
-PROPERTIES = ("plain.PlainRun.finished", "parts.Part.fall_through")
+PROPERTIES = ("plain.PlainRun.finished", "parts.Part.fall_through", "debugger.Debugger.position")
 VALUES = ("ops.OPS", "policy.RULES", "guest.PLAIN_PAGES", "trial.ACTIONS", "plaintext.TRAP_KINDS",
           "explore.MOST_LENGTH", "policies.CODE_RULES", "policies.VALUE_RULES", "policies.POLL_RULES",
           "search.BAD", "celltable.MOVES", "celltable.TARGETS", "valuetable.VALUE_TARGETS",
-          "valuetable.REGISTER_MOVES", "prices.MOST_PRICE")
+          "valuetable.REGISTER_MOVES", "prices.MOST_PRICE", "house.HOUSE")
 
 
 def module_named(name):

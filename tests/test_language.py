@@ -19,7 +19,7 @@ METHODS = set(
     "join keys ljust lower lstrip partition pop remove replace reverse rfind rjust rpartition rsplit rstrip "
     "setdefault split splitlines startswith strip update upper values zfill add discard".split()
 )
-DOUBLE = {"__init__", "__contains__", "__iter__", "__or__", "__sub__"}
+DOUBLE = {"__init__", "__contains__", "__iter__", "__or__", "__sub__", "__call__", "__enter__", "__exit__"}
 BARRED_WORDS = re.compile(
     r"\b(type|typing|typing_extensions|enum|Enum|IntEnum|StrEnum|Flag|IntFlag|Generic|Protocol|ABC|ABCMeta|"
     r"namedtuple|NamedTuple|TypedDict|TYPE_CHECKING|abstractmethod|_wall|_WallAttr|NotImplemented)\b"
@@ -31,7 +31,7 @@ BARRED_NAMES = {
 }
 BARRED_NODES = (
     ast.AsyncFunctionDef, ast.AsyncFor, ast.AsyncWith, ast.Await, ast.Global, ast.Nonlocal, ast.Import, ast.AnnAssign,
-    ast.Div, ast.MatMult, ast.NamedExpr, ast.Try,
+    ast.Div, ast.MatMult, ast.NamedExpr,
 )
 
 
@@ -184,6 +184,17 @@ class TestNames(unittest.TestCase):
                 attributes.add(node.attr)
         self.assertEqual(methods & attributes, set())
 
+    def test_own_names_are_not_those_of_builtin_values(self):
+        known = set().union(*[dir(kind) for kind in (str, int, list, dict, set, bytes, tuple)])
+        allowed = METHODS | {"find"}
+        for name, node in walk_all(ast.ClassDef):
+            for part in node.body:
+                if isinstance(part, ast.FunctionDef) and part.name not in DOUBLE:
+                    self.assertNotIn(part.name, known - allowed, (name, node.name))
+        for name, node in walk_all(ast.Attribute):
+            if isinstance(node.ctx, ast.Store):
+                self.assertNotIn(node.attr, known, name)
+
     def test_generators_have_names_of_their_own(self):
         yields = {}
         for name, node in walk_all(ast.FunctionDef):
@@ -214,6 +225,38 @@ class TestExpressions(unittest.TestCase):
     def test_barred_nodes(self):
         for name, node in walk_all(*BARRED_NODES):
             self.fail((name, ast.dump(node)))
+
+    def test_only_own_errors_are_caught(self):
+        own = {node.name for node in TREES["errors"].body if isinstance(node, ast.ClassDef)}
+        for name, node in walk_all(ast.Try):
+            self.assertEqual((node.finalbody, node.orelse), ([], []), name)
+            for handler in node.handlers:
+                self.assertIn(handler.type.id, own, name)
+                for part in ast.walk(handler):
+                    if isinstance(part, ast.Attribute):
+                        self.assertIn(part.attr, ("line", "column"), name)
+
+    def test_errors_are_raised_by_name(self):
+        own = {node.name for node in TREES["errors"].body if isinstance(node, ast.ClassDef)}
+        for name, node in walk_all(ast.Raise):
+            self.assertIsInstance(node.exc, ast.Call, name)
+            self.assertIn(node.exc.func.id, own, name)
+            self.assertTrue(node.cause is None or node.cause.value is None, name)
+
+    def test_exits_of_with_statements_only_give_attributes_back(self):
+        for name, node in walk_all(ast.FunctionDef):
+            if node.name == "__exit__":
+                for part in node.body:
+                    self.assertIsInstance(part, ast.Assign, name)
+                    self.assertEqual(len(part.targets), 1, name)
+                    self.assertIsInstance(part.targets[0], (ast.Name, ast.Attribute), name)
+                    self.assertEqual(part.value.value.id, "self", name)
+
+    def test_stars_stand_in_parameters_alone(self):
+        for name, node in walk_all(ast.Starred):
+            self.fail((name, node.lineno))
+        for name, node in walk_all(ast.Call):
+            self.assertNotIn(None, [keyword.arg for keyword in node.keywords], (name, node.lineno))
 
     def test_constants(self):
         for name, node in walk_all(ast.Constant):
