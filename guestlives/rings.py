@@ -45,7 +45,7 @@ def greatest_delay(graph, policy):
     edges = list(unpolled_edges(graph, policy))
     lengths = {entry: row[0] for entry, row in graph.items()}
     # Without rings a way has each entry at most once: after so many rounds all lengths are known.
-    for _ in range(len(lengths)):
+    for _ in range(len(graph)):
         for entry, target in edges:
             lengths[entry] = max(lengths[entry], graph[entry][0] + lengths[target])
     return max([length - 1 for length in lengths.values()], default=0)
