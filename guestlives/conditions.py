@@ -1,6 +1,7 @@
-"""The three conditions of right policies (points 97 and 98).
+"""The three conditions of right policies (points 97 to 99).
 
-A condition is a tree: the name of a rule, or a pair of the word "all" or "any" and a tuple of trees.
+A condition is a tree: the name of a rule, or a pair of the word "all" or "any" and a tuple of trees. Several
+policies can be asked at once: a group of them is kept as a number, with the bit 1 << k for policy k.
 """
 
 COVERED = ("all", ("track_frames", ("any", ("track_second", "stop_page"))))
@@ -10,13 +11,23 @@ STORE_RULES = ("any", ("prompt_store", "single", "stop_store"))
 FAULT_RULES = ("any", ("map_fault", "flush_fault"))
 
 
+def met_by(tree, owners):
+    """Return the group of the policies that meet a condition; owners has for each rule the group that has it."""
+    if isinstance(tree, str):
+        return owners.get(tree, 0)
+    word, parts = tree
+    found = met_by(parts[0], owners)
+    for part in parts[1:]:
+        if word == "any":
+            found = found | met_by(part, owners)
+        elif found != 0:
+            found = found & met_by(part, owners)
+    return found
+
+
 def holds(tree, policy):
     """Tell whether a policy meets a condition."""
-    if isinstance(tree, str):
-        return policy.has(tree)
-    word, parts = tree
-    found = [holds(part, policy) for part in parts]
-    return all(found) if word == "all" else any(found)
+    return met_by(tree, {name: 1 for name in policy.names}) == 1
 
 
 def value_tree():
@@ -57,6 +68,11 @@ def entry_tree(other, device):
 def code_tree(other, device):
     """Return the condition under which no block is used that is not the same any more."""
     return ("all", (("any", ("single", inside_tree(other, device))), entry_tree(other, device)))
+
+
+def right_tree(other, device):
+    """Return the condition of right policies: all three conditions."""
+    return ("all", (value_tree(), leave_tree(other, device), code_tree(other, device)))
 
 
 def value_condition(policy):

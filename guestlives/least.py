@@ -3,7 +3,7 @@
 Sets of rules are kept as the numbers of their policies (point 64): one bit for each rule.
 """
 
-from guestlives.conditions import code_tree, leave_tree, value_tree
+from guestlives.conditions import met_by, right_tree
 from guestlives.policies import policy_number, policy_numbered
 from guestlives.policy import Policy
 from guestlives.verdict import is_right
@@ -36,7 +36,7 @@ def ways_to_meet(tree):
 
 def least_right_numbers(other, device):
     """Return the numbers of the least right policies for an environment."""
-    return ways_to_meet(("all", (value_tree(), leave_tree(other, device), code_tree(other, device))))
+    return ways_to_meet(right_tree(other, device))
 
 
 def in_set_order(numbers):
@@ -59,22 +59,40 @@ def repairs(policy, *, other=True, device=True):
 
 def redundant(policy, *, other=True, device=True):
     """Return the tuple of the rules of a right policy that can be left out alone."""
-    found = []
-    for name in policy.names:
-        # More rules keep a right policy right: nothing is found for a wrong one.
-        if is_right(policy - Policy([name]), other=other, device=device):
-            found.append(name)
-    return tuple(found)
+    names = policy.names
+    every = (1 << len(names)) - 1
+    # Policy k has all rules but the rule k. More rules keep a right policy right: of a wrong one none of them is.
+    owners = {name: every - (1 << place) for place, name in enumerate(names)}
+    right = met_by(right_tree(other, device), owners)
+    return tuple([name for place, name in enumerate(names) if (right >> place) & 1 == 1])
+
+
+def lasting_rules(names, tree):
+    """Return the rules of a right policy that stay when its first redundant rule is left out again and again."""
+    # Policy k has the lasting rules and all but the first k. More rules keep a right policy right: the right ones
+    # stand ahead of the wrong ones, and a rule that is not redundant once is not redundant later on.
+    every = (2 << len(names)) - 1
+    owners = {name: (2 << place) - 1 for place, name in enumerate(names)}
+    lasting = []
+    right = met_by(tree, owners)
+    while right != every:
+        # The first wrong policy has one rule less than the last right one.
+        name = names[right.bit_length() - 1]
+        lasting.append(name)
+        owners[name] = every
+        right = met_by(tree, owners)
+    return lasting
 
 
 def shrink(policy, *, other=True, device=True):
     """Yield a right policy, and then again and again the one without its first redundant rule."""
     if not is_right(policy, other=other, device=device):
         return
-    left = Policy(policy)
-    yield left
-    spare = redundant(left, other=other, device=device)
-    while len(spare) > 0:
-        left = left - Policy([spare[0]])
-        yield left
-        spare = redundant(left, other=other, device=device)
+    names = policy.names
+    yield Policy(names)
+    lasting = lasting_rules(names, right_tree(other, device))
+    left = list(names)
+    for name in names:
+        if name not in lasting:
+            left.remove(name)
+            yield Policy(left)

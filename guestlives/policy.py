@@ -39,11 +39,11 @@ class Policy:
     """A set of rules; its names stand in the order of RULES."""
 
     def __init__(self, names=()):
-        told = []
+        told = {}
         for name in names:
             if name not in RULES or name in told:
                 raise PolicyError(name)
-            told.append(name)
+            told[name] = True
         self.names = tuple([name for name in RULES if name in told])
 
     @staticmethod

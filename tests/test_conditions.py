@@ -5,10 +5,10 @@ from itertools import combinations, product
 from random import Random
 
 from checks import Checks
-from guestlives.conditions import code_condition, leave_condition, value_condition
+from guestlives.conditions import code_condition, leave_condition, met_by, right_tree, value_condition
 from guestlives.policies import CODE_RULES, POLL_RULES, VALUE_RULES
-from guestlives.policy import Policy
-from wording import code_is_safe, leaving_is_safe, values_are_safe
+from guestlives.policy import RULES, Policy
+from wording import code_is_safe, leaving_is_safe, right_by_words, values_are_safe
 
 ENVIRONMENTS = tuple(product((True, False), repeat=2))
 MAPPED = "flush_exit map_inspect keep_dropped flush_source"
@@ -154,6 +154,31 @@ class TestCodeCondition(Checks):
         self.assertIs(code_condition(Policy(names), other=False, device=False), True)
         with self.assertRaises(TypeError):
             code_condition(Policy(names), False, False)
+
+
+class TestManyPoliciesAtOnce(Checks):
+    def test_one_bit_for_each_policy(self):
+        owners = {"eager": 0b1010, "single": 0b1100}
+        for tree, wanted in (("eager", 0b1010), ("no_links", 0), (("all", ("eager", "single")), 0b1000),
+                             (("any", ("eager", "single")), 0b1110), (("all", ("eager", "no_links")), 0),
+                             (("all", ("no_links", "eager")), 0), (("any", ("no_links", "eager")), 0b1010),
+                             (("all", (("any", ("eager", "single")), "single")), 0b1100),
+                             (("any", ("single",)), 0b1100)):
+            self.same_kind(met_by(tree, owners), wanted)
+        self.same_kind(met_by(("any", ("eager", "single")), {}), 0)
+
+    def test_many_sets_of_rules(self):
+        random = Random(7)
+        rows = [RULES, ()]
+        for _ in range(200):
+            share = random.choice((5, 8, 9))
+            rows.append([name for name in RULES if random.randrange(10) < share])
+        owners = {name: sum([1 << k for k, names in enumerate(rows) if name in names]) for name in RULES}
+        for other, device in ENVIRONMENTS:
+            found = met_by(right_tree(other, device), owners)
+            wanted = [right_by_words(names, other, device) for names in rows]
+            self.assertEqual([(found >> k) & 1 == 1 for k in range(len(rows))], wanted)
+            self.assertEqual(found >> len(rows), 0)
 
 
 if __name__ == "__main__":

@@ -17,7 +17,7 @@ BUILTINS = set(
 METHODS = set(
     "append clear copy count endswith extend get index insert isalnum isalpha isdigit islower isspace isupper items "
     "join keys ljust lower lstrip partition pop remove replace reverse rfind rjust rpartition rsplit rstrip "
-    "setdefault split splitlines startswith strip update upper values zfill add discard".split()
+    "setdefault split splitlines startswith strip update upper values zfill bit_length add discard".split()
 )
 DOUBLE = {"__init__", "__contains__", "__iter__", "__or__", "__sub__", "__call__", "__enter__", "__exit__"}
 BARRED_WORDS = re.compile(

@@ -1,5 +1,6 @@
 """Points 102 and 103."""
 
+import sys
 import unittest
 from itertools import combinations, product
 from random import Random
@@ -22,6 +23,35 @@ def set_order(rows):
 def any_policy(random):
     share = random.choice((3, 5, 7, 9))
     return Policy([name for name in RULES if random.randrange(10) < share])
+
+
+def shrunk_by_words(names, other, device):
+    """The rows of names that point 103 asks of shrink, in its words."""
+    rows = [tuple(names)] if right_by_words(names, other, device) else []
+    while len(rows) > 0:
+        lefts = [tuple([rule for rule in rows[-1] if rule != name]) for name in rows[-1]]
+        right = [left for left in lefts if right_by_words(left, other, device)]
+        if len(right) == 0:
+            break
+        rows.append(right[0])
+    return rows
+
+
+def steps_of(call, module):
+    """How often functions of a module are called while a call runs."""
+    found = []
+
+    def watch(frame, event, _):
+        if event == "call" and frame.f_globals.get("__name__") == module:
+            found.append(frame.f_code.co_name)
+
+    before = sys.getprofile()
+    sys.setprofile(watch)
+    try:
+        call()
+    finally:
+        sys.setprofile(before)
+    return len(found)
 
 
 class TestLeastPolicies(Checks):
@@ -202,6 +232,58 @@ class TestShrink(Checks):
             found = list(shrink(Policy.full(), other=other, device=device))
             self.assertEqual(redundant(found[-1], other=other, device=device), ())
             self.assertTrue(is_right(found[-1], other=other, device=device))
+
+    def test_by_the_words_of_the_document(self):
+        random = Random(16)
+        for _ in range(150):
+            policy = any_policy(random) | Policy(random.choice((SINGLE, ("check_entry",), ())))
+            for other, device in ENVIRONMENTS:
+                found = [left.names for left in shrink(policy, other=other, device=device)]
+                self.assertEqual(found, shrunk_by_words(policy.names, other, device))
+
+    def test_few_rules_left_out_and_repaired_policies(self):
+        random = Random(17)
+        policies = [Policy.full() - Policy(names) for names in combinations(RULES, 1)]
+        policies.extend([Policy.full() - Policy(random.sample(RULES, 4)) for _ in range(40)])
+        for _ in range(8):
+            policy = any_policy(random)
+            policies.extend([policy | Policy(names) for names in repairs(policy)[-3:]])
+        for policy in policies:
+            for other, device in ENVIRONMENTS:
+                found = [left.names for left in shrink(policy, other=other, device=device)]
+                self.assertEqual(found, shrunk_by_words(policy.names, other, device))
+
+    def test_least_policies_of_each_environment(self):
+        for other, device in ENVIRONMENTS:
+            for policy in least_policies(other=other, device=device):
+                found = [left.names for left in shrink(policy, other=other, device=device)]
+                self.assertEqual(found, [policy.names])
+
+    def test_each_one_is_a_policy_of_its_own(self):
+        policy = Policy(SINGLE + ("flush_exit", "no_links", "poll_entry"))
+        names = policy.names
+        found = [policy]
+        for left in shrink(policy):
+            self.assertIs(type(left), Policy)
+            self.assertFalse(any([left is other for other in found]))
+            found.append(left)
+        self.assertEqual(len(found), 5)
+        self.assertEqual(policy.names, names)
+        # What is done to a policy that was yielded changes no later one.
+        later = shrink(policy)
+        next(later).names = ()
+        self.assertEqual([left.names for left in later], [left.names for left in found[2:]])
+
+    def test_conditions_are_asked_seldom(self):
+        # One evaluation of all conditions takes about 60 calls.
+        module = "guestlives.conditions"
+        for other, device in ENVIRONMENTS:
+            asked = steps_of(lambda: is_right(Policy.full(), other=other, device=device), module)
+            self.assertGreater(asked, 0)
+            spare = steps_of(lambda: redundant(Policy.full(), other=other, device=device), module)
+            self.assertLess(spare, 3 * asked)
+            rows = steps_of(lambda: list(shrink(Policy.full(), other=other, device=device)), module)
+            self.assertLess(rows, 12 * asked)
 
     def test_a_generator(self):
         found = shrink(Policy.full())
